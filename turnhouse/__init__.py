@@ -1,0 +1,1 @@
+"""Turnhouse: houses of rooms, and the walks that they let pass."""
