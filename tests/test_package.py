@@ -1,6 +1,8 @@
 """Point 1, as far as the package's own text shows it, and the rows of the language that a short look can hold it to."""
 
 import ast
+import importlib
+import inspect
 import pathlib
 import unittest
 
@@ -14,6 +16,19 @@ ALLOWED_NAMES = set("""
     repr any all divmod Exception ValueError TypeError KeyError IndexError LookupError ZeroDivisionError
     ArithmeticError OverflowError RuntimeError NotImplementedError StopIteration
 """.split())
+
+
+INTERFACE = {
+    "rooms": {"room_at": ["house", "room", "walk"], "lets": ["house", "walk"]},
+    "ways": {"ways_in": ["house"], "some_walk": ["house"], "walks_up_to": ["house", "most"]},
+    "comparing": {"told_apart": ["house", "one", "other"], "difference": ["one", "other"]},
+    "least": {"least": ["house"]},
+    "building": {
+        "opposite": ["house"], "both": ["one", "other"], "either": ["one", "other"], "behind": ["one", "other"],
+        "again": ["house"], "backwards": ["house"],
+    },
+    "plans": {"house_of": ["plan"]},
+}
 
 
 def files():
@@ -41,9 +56,15 @@ def names_bound(tree):
 
 
 class Package(unittest.TestCase):
-    def test_the_parts_are_there(self):
-        names = {path.name for path in files()}
-        self.assertLessEqual({"__init__.py", "errors.py", "rooms.py", "exploring.py", "ways.py"}, names)
+    def test_the_interface_is_there(self):
+        for part, functions in INTERFACE.items():
+            module = importlib.import_module("turnhouse." + part)
+            for name, arguments in functions.items():
+                self.assertEqual(list(inspect.signature(getattr(module, name)).parameters), arguments, name)
+
+    def test_nothing_but_python_files_lies_in_the_package(self):
+        others = [path for path in PACKAGE.rglob("*") if path.is_file() and path.suffix not in (".py", ".pyc")]
+        self.assertEqual(others, [])
 
     def test_only_the_package_itself_is_imported(self):
         for name, tree in trees():

@@ -2,15 +2,10 @@ import unittest
 
 from tests.houses import (
     DARK_ROOM, EXAMPLE, LIT_ROOM, MOST_ROOMS, OTHER_SIGNS, HouseCase, all_houses, all_walks, corridor, follow,
-    large_houses, many_houses, ring,
+    large_houses, many_houses, numbers_of_no_room, ring,
 )
 from turnhouse.errors import HouseError, NoRoom, NoWalk
 from turnhouse.rooms import lets, room_at
-
-
-def numbers_of_no_room(house):
-    size = len(house)
-    return [-1, -2, -size, -size - 1, size, size + 1, 2 * size, 10 ** 6, -10 ** 6, 2 ** 64, 10 ** 5000, -10 ** 5000]
 
 
 def texts_that_are_no_walks():

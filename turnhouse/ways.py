@@ -1,24 +1,22 @@
 """Walks that lead to the rooms of a house, and walks that it lets pass."""
 
-from turnhouse.exploring import explore, walk_to
+from turnhouse.exploring import explore, first_walk, walk_to
 from turnhouse.rooms import exits_of, is_lit
 
 
-def explore_house(house):
-    return explore(0, lambda room: exits_of(house, room))
+def exits_in(house):
+    return lambda room: exits_of(house, room)
 
 
 def ways_in(house):
-    steps = explore_house(house)
+    # No room is wanted above others, so that all are looked for.
+    found = explore(0, exits_in(house), lambda room: False)
+    steps = found[0]
     return [walk_to(steps, room) if room in steps else None for room in range(len(house))]
 
 
 def some_walk(house):
-    steps = explore_house(house)
-    for room in steps:
-        if is_lit(house, room):
-            return walk_to(steps, room)
-    return None
+    return first_walk(0, exits_in(house), lambda room: is_lit(house, room))
 
 
 def one_turn_longer(house, reached):
