@@ -1,8 +1,10 @@
 """Houses and plans to test with, and answers worked out straight from the document, without the program."""
 
+import contextlib
 import copy
 import functools
 import itertools
+import signal
 import unittest
 
 MOST_ROOMS = 250
@@ -197,8 +199,24 @@ ANY_TURN = ("either", LEFT, RIGHT)
 ALL = ("not", NONE)
 
 
+@contextlib.contextmanager
+def seconds_at_most(seconds):
+    """What is done within fails if it takes longer, so that the tests come to an end."""
+    def late(number, frame):
+        raise AssertionError(f"no answer within {seconds} seconds")
+
+    before = signal.signal(signal.SIGALRM, late)
+    signal.alarm(seconds)
+    try:
+        yield
+    finally:
+        signal.alarm(0)
+        signal.signal(signal.SIGALRM, before)
+
+
 def words_in(plan):
-    return sum(words_in(part) if isinstance(part, tuple) else 1 for part in plan)
+    """Each plan in it is one word more; the sign of a turn is none by itself."""
+    return 1 + sum(words_in(part) for part in plan[1:] if isinstance(part, tuple))
 
 
 def in_a_row(*plans):

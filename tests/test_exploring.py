@@ -54,21 +54,13 @@ class FirstWalk(unittest.TestCase):
 
 
 class LayOut(unittest.TestCase):
-    def house(self, start, exits, most):
-        return lay_out(start, lambda place: exits[place], lambda place: place in ("b", "d"), most)
-
     def test_rooms_are_numbered_as_they_are_first_met(self):
         exits = {"a": ("c", "b"), "b": ("b", "d"), "c": ("d", "a"), "d": ("a", "a"), "e": ("a", "a")}
-        self.assertEqual(self.house("a", exits, None), [(1, 2, False), (3, 0, False), (2, 3, True), (0, 0, True)])
+        house = lay_out("a", lambda place: exits[place], lambda place: place in ("b", "d"))
+        self.assertEqual(house, [(1, 2, False), (3, 0, False), (2, 3, True), (0, 0, True)])
 
-    def test_just_as_many_rooms_as_may_be(self):
-        exits = {"a": ("c", "b"), "b": ("b", "d"), "c": ("d", "a"), "d": ("a", "a")}
-        self.assertEqual(self.house("a", exits, 4), self.house("a", exits, None))
-        for most in range(1, 4):
-            self.assertIsNone(self.house("a", exits, most))
-
-    def test_places_without_end(self):
-        self.assertIsNone(lay_out(0, lambda place: (place + 1, 0), lambda place: True, 1000))
+    def test_one_place(self):
+        self.assertEqual(lay_out("a", lambda place: ("a", "a"), lambda place: True), [(0, 0, True)])
 
 
 if __name__ == "__main__":

@@ -1,82 +1,85 @@
 import itertools
 import unittest
 
-from tests.houses import DARK_ROOM, EXAMPLE, LIT_ROOM, all_houses, corridor, mixed, ring, same_walks
-from turnhouse.covering import covers_of
-from turnhouse.forks import again_forks, behind_forks, settled
-from turnhouse.least import least
-from turnhouse.sparing import again_forks_backwards, behind_forks_backwards, least_again, least_behind, turned_round
+from tests.forking import houses, many_forks, mixed_forks, walks_in
+from tests.houses import cut_in_many, cut_in_two, walks_of
+from turnhouse.fewer import made_fewer, merged, without_useless
+from turnhouse.forks import again_forks, behind_forks, both_forks, either_forks, forks_of_house, turned_round
+
+MOST = 6
 
 
-def houses():
-    return all_houses(1) + all_houses(2)[::5] + [EXAMPLE, ring(4, {1}), corridor(5), mixed(4, 1), mixed(5, 3)]
+def parts():
+    return [forks_of_house(house) for house in houses()[::4]] + [mixed_forks(size, 3) for size in (1, 2, 4, 5)]
 
 
-def walks_from(rooms, here, walk):
-    """Whether a walk may lead from one of the rooms to a lit one."""
-    for turn in walk:
-        here = {there for room in here for there in rooms[room]["lr".index(turn)]}
-    return any(rooms[room][2] for room in here)
-
-
-class Covering(unittest.TestCase):
-    def check(self, rooms):
-        covers = covers_of(rooms)
-        walks = ["".join(turns) for length in range(7) for turns in itertools.product("lr", repeat=length)]
-        for room in range(len(rooms)):
-            for other in covers[room]:
-                self.assertNotEqual(room, other)
-                self.assertNotIn(room, covers[other])
-                for walk in walks:
-                    self.assertLessEqual(walks_from(rooms, {room}, walk), walks_from(rooms, {other}, walk))
-
-    def test_who_takes_a_place_lets_pass_as_much(self):
-        for one, other in itertools.product(houses()[::3], repeat=2):
-            self.check(behind_forks(one, other).rooms)
+class MadeOfOthers(unittest.TestCase):
+    def test_of_a_house(self):
         for house in houses():
-            self.check(again_forks(house).rooms)
-
-    def test_written_out(self):
-        # Room 0 lets nothing pass, room 1 all, room 2 the empty walk, room 3 the same as room 2.
-        rooms = [((0,), (0,), False), ((1,), (1,), True), ((0,), (0,), True), ((0,), (0,), True)]
-        self.assertEqual(covers_of(rooms), [{1: True, 2: True, 3: True}, {}, {1: True}, {1: True, 2: True}])
-
-    def test_a_fork_that_helps(self):
-        # Room 0 leads to a lit room that leads on, and to one that does not; room 1 to the second one alone.
-        rooms = [((2, 3), (4,), False), ((3,), (4,), False), ((2,), (4,), True), ((4,), (4,), True), ((4,), (4,), False)]
-        covers = covers_of(rooms)
-        self.assertIn(0, covers[1])
-        self.assertNotIn(1, covers[0])
-        self.assertEqual(covers[3], {2: True})
-
-
-class AllWaysAgree(unittest.TestCase):
-    def check(self, forks, backwards, answer):
-        plain = settled(forks, None, None)
-        spared = settled(forks, covers_of(forks.rooms), None)
-        turned = turned_round(backwards, 10 ** 6)
-        self.assertTrue(same_walks(plain, spared))
-        self.assertTrue(same_walks(plain, turned))
-        self.assertLessEqual(len(spared), len(plain))
-        self.assertEqual(answer, least(plain))
+            self.assertEqual(walks_in(forks_of_house(house), MOST), walks_of(house, MOST))
 
     def test_behind(self):
-        for one, other in itertools.product(houses(), repeat=2):
-            backwards = behind_forks_backwards(one, other, 10 ** 6)
-            self.check(behind_forks(one, other), backwards, least_behind(one, other))
+        for one, other in itertools.product(parts(), repeat=2):
+            walks = cut_in_two(walks_in(one, MOST), walks_in(other, MOST), MOST)
+            self.assertEqual(walks_in(behind_forks(one, other), MOST), walks)
 
     def test_again(self):
-        for house in houses() + [mixed(size, seed) for size in range(2, 9) for seed in range(10)]:
-            self.check(again_forks(house), again_forks_backwards(house, 10 ** 6), least_again(house))
+        for part in parts():
+            self.assertEqual(walks_in(again_forks(part), MOST), cut_in_many(walks_in(part, MOST), MOST))
+            twice = again_forks(again_forks(part))
+            self.assertEqual(walks_in(twice, MOST), walks_in(again_forks(part), MOST))
 
-    def test_too_many_rooms(self):
-        self.assertIsNone(settled(again_forks(corridor(6)), None, 3))
-        self.assertIsNone(behind_forks_backwards(corridor(6), LIT_ROOM, 3))
-        self.assertIsNone(behind_forks_backwards(LIT_ROOM, corridor(6), 3))
-        self.assertIsNone(again_forks_backwards(corridor(6), 3))
-        self.assertIsNone(turned_round(None, 3))
-        self.assertIsNone(turned_round(again_forks(corridor(6)), 3))
-        self.assertEqual(least_behind(DARK_ROOM, LIT_ROOM), DARK_ROOM)
+    def test_both_and_either(self):
+        for one, other in itertools.product(parts(), repeat=2):
+            walks, others = walks_in(one, MOST), walks_in(other, MOST)
+            self.assertEqual(walks_in(both_forks(one, other, 1000), MOST), walks & others)
+            self.assertEqual(walks_in(either_forks(one, other), MOST), walks | others)
+
+    def test_both_with_too_many_pairs(self):
+        one, other = forks_of_house([(1, 0, True), (0, 1, False)]), forks_of_house([(0, 1, True), (1, 0, False)])
+        self.assertEqual(both_forks(one, other, 4).size(), 4)
+        self.assertIsNone(both_forks(one, other, 3))
+
+    def test_turned_round(self):
+        for forks in many_forks():
+            backwards = {walk[::-1] for walk in walks_in(forks, MOST)}
+            self.assertEqual(walks_in(turned_round(forks), MOST), backwards)
+
+    def test_parts_are_left_as_they_are(self):
+        for part in parts():
+            before = ([list(lots) for lots in part.exits], part.first, part.lit)
+            again_forks(part)
+            behind_forks(part, part)
+            either_forks(part, part)
+            both_forks(part, part, 1000)
+            made_fewer(part)
+            turned_round(part)
+            self.assertEqual(([list(lots) for lots in part.exits], part.first, part.lit), before)
+
+
+class Fewer(unittest.TestCase):
+    def test_the_same_walks_with_fewer_rooms(self):
+        for forks in many_forks():
+            walks = walks_in(forks, MOST)
+            for make in (without_useless, merged, made_fewer):
+                fewer = make(forks)
+                self.assertEqual(walks_in(fewer, MOST), walks, make.__name__)
+                self.assertLessEqual(fewer.size(), forks.size())
+            self.assertLessEqual(made_fewer(forks).size(), without_useless(forks).size())
+
+    def test_useless_rooms_are_left_out(self):
+        # Room 1 isn't come to; from room 2 nothing passes.
+        forks = without_useless(forks_of_house([(2, 0, True), (0, 0, True), (2, 2, False)]))
+        self.assertEqual((forks.size(), forks.exits, forks.first, forks.lit), (1, ([0], [1]), 1, 1))
+
+    def test_nothing_passes(self):
+        self.assertEqual(made_fewer(forks_of_house([(1, 1, False), (0, 0, False)])).size(), 0)
+
+    def test_copies_are_merged(self):
+        house = forks_of_house([(1, 0, False), (2, 1, False), (0, 2, True)])
+        twice = either_forks(house, house)
+        self.assertEqual(made_fewer(twice).size(), 3)
+        self.assertEqual(made_fewer(either_forks(twice, twice)).size(), 3)
 
 
 if __name__ == "__main__":

@@ -4,7 +4,8 @@ import unittest
 
 from tests.houses import (
     ALL, ANY_TURN, LEFT, NONE, RIGHT, STILL, HouseCase, all_walks, can_be_cut, can_be_cut_in_many, in_a_row,
-    kinds_of_rooms, mixed_plan, order_of_meeting, passes, repeated, walks_of, walks_that_fit, words_in, wrapped,
+    kinds_of_rooms, mixed_plan, order_of_meeting, passes, repeated, seconds_at_most, walks_of, walks_that_fit, words_in,
+    wrapped,
 )
 from turnhouse.plans import house_of
 
@@ -56,6 +57,26 @@ def counted(turn, other, times):
     """The walks in which the number of such turns can be divided by `times`."""
     between = [("many", other), turn] * (times - 1)
     return ("many", ("either", other, in_a_row(turn, *between)))
+
+
+def lefts(times):
+    """Just so many lefts, with any rights ahead of each."""
+    return repeated(("then", ("many", RIGHT), LEFT), times)
+
+
+def rights(times):
+    return repeated(("then", ("many", LEFT), RIGHT), times)
+
+
+def turns(times):
+    return repeated(ANY_TURN, times)
+
+
+def one_of(*plans):
+    row = plans[-1]
+    for plan in reversed(plans[:-1]):
+        row = ("either", plan, row)
+    return row
 
 
 def left_at_place_from_the_end(place):
@@ -184,12 +205,12 @@ class LargePlans(PlanCase):
         return house
 
     def test_a_hundred_words_in_a_row(self):
-        plan = ("not", repeated(LEFT, 33))
-        self.assertEqual(words_in(plan), 99)
-        house = self.check_large(plan, 35)
-        for turns in (0, 1, 32, 33, 34, 100):
-            self.assertIs(passes(house, "l" * turns), turns != 33)
-        self.assertIs(passes(house, "l" * 32 + "r"), True)
+        plan = ("not", repeated(LEFT, 50))
+        self.assertEqual(words_in(plan), MOST_WORDS)
+        house = self.check_large(plan, 52)
+        for count in (0, 1, 49, 50, 51, 100):
+            self.assertIs(passes(house, "l" * count), count != 50)
+        self.assertIs(passes(house, "l" * 49 + "r"), True)
 
     def test_a_hundred_words_one_within_the_other(self):
         for words in (["not"], ["many"], ["not", "many"], ["many", "not"], ["many", "many", "not"]):
@@ -197,19 +218,19 @@ class LargePlans(PlanCase):
                 plan = wrapped(words, MOST_WORDS - 1, start)
                 self.assertEqual(words_in(plan), MOST_WORDS)
                 self.check(plan, 6)
-            self.check(wrapped(words, MOST_WORDS - 2, LEFT), 6)
+            self.check(wrapped(words, MOST_WORDS - 1, LEFT), 6)
 
     def test_somewhat_more_than_a_hundred_words(self):
         self.assertEqual(self.built(house_of, wrapped(["not"], 300, LEFT)), house_of(LEFT))
-        self.assertEqual(len(self.built(house_of, repeated(LEFT, 60))), 62)
+        self.assertEqual(len(self.built(house_of, repeated(LEFT, 90))), 92)
 
     def test_in_a_row_from_either_side(self):
         plan = LEFT
-        for number in range(32):
+        for number in range(49):
             plan = ("then", plan, RIGHT if number % 3 else LEFT)
-        self.assertEqual(words_in(plan), 98)
-        house = self.check_large(plan, 35)
-        walk = "l" + "".join("r" if number % 3 else "l" for number in range(32))
+        self.assertEqual(words_in(plan), 99)
+        house = self.check_large(plan, 52)
+        walk = "l" + "".join("r" if number % 3 else "l" for number in range(49))
         self.assertIs(passes(house, walk), True)
         self.assertIs(passes(house, walk[:-1]), False)
 
@@ -225,8 +246,8 @@ class LargePlans(PlanCase):
     def test_nearly_a_thousand_rooms(self):
         plan = ("both", ("many", repeated(LEFT, 7)), ("both", ("many", repeated(LEFT, 11)), ("many", repeated(LEFT, 12))))
         house = self.check_large(plan, 925)
-        for turns in (0, 7, 77, 84, 132, 462, 923, 924, 925, 1848):
-            self.assertIs(passes(house, "l" * turns), turns % 924 == 0)
+        for count in (0, 7, 77, 84, 132, 462, 923, 924, 925, 1848):
+            self.assertIs(passes(house, "l" * count), count % 924 == 0)
         self.assertIs(passes(house, "l" * 923 + "r"), False)
 
     def test_a_left_far_from_the_beginning(self):
@@ -255,6 +276,72 @@ class LargePlans(PlanCase):
         for number in range(2):
             plan = ("not", ("many", plan))
         self.check(plan, 8)
+
+
+class HardPlans(PlanCase):
+    """Plans for which houses on the way would have very many rooms, if these were not kept few by all means."""
+
+    def check_hard(self, plan, rooms):
+        self.assertLessEqual(words_in(plan), MOST_WORDS)
+        with seconds_at_most(60):
+            house = self.built(house_of, plan)
+        self.assertEqual(len(house), rooms)
+        self.check_least(house)
+        return house
+
+    def check_told_otherwise(self, plan, other, rooms):
+        self.assertEqual(self.check_hard(plan, rooms), self.check_hard(other, rooms))
+
+    def check_some_walks(self, plan, house):
+        chance = random.Random(21)
+        for number in range(60):
+            walk = "".join(chance.choice("lr") for _ in range(chance.randint(0, 24)))
+            self.assertIs(passes(house, walk), fits(plan, walk), walk)
+
+    def test_many_of_either_of_many(self):
+        for parts, rooms in [
+            ((turns(3), lefts(5)), 104), ((turns(4), rights(5)), 251), ((turns(5), lefts(4)), 278),
+            ((lefts(3), rights(5)), 217), ((turns(2), lefts(9)), 231), ((turns(4), turns(6), lefts(3)), 24),
+            ((turns(6), lefts(4)), 584), ((turns(7), rights(3)), 626),
+        ]:
+            plan = ("many", one_of(*[("many", part) for part in parts]))
+            self.check_told_otherwise(plan, ("many", one_of(*parts)), rooms)
+
+    def test_many_of_then_of_many(self):
+        for one, other, rooms in [
+            (lefts(4), turns(4), 127), (rights(5), turns(3), 104), (lefts(6), rights(3), 441), (turns(5), lefts(3), 145),
+        ]:
+            flat = ("many", one_of(one, other))
+            for plan in [("then", ("many", one), ("many", other)), ("then", ("many", other), ("many", one)),
+                         ("then", ("many", one), ("either", STILL, other))]:
+                self.check_told_otherwise(("many", plan), flat, rooms)
+
+    def test_then_from_either_end(self):
+        by_three, by_four = ("many", lefts(3)), ("many", turns(4))
+        by_six_and_five = ("both", ("many", lefts(6)), ("many", turns(5)))
+        for one, other, third, rooms in [
+            (by_three, by_six_and_five, by_four, 43), (by_six_and_five, by_three, by_four, 43),
+            (by_four, by_three, by_six_and_five, 33),
+        ]:
+            self.check_told_otherwise(("then", one, ("then", other, third)), ("then", ("then", one, other), third), rooms)
+
+    def test_not_in_other_places(self):
+        one, other = ("many", turns(5)), ("many", lefts(5))
+        plan = ("many", ("either", one, other))
+        for otherwise in [
+            ("not", ("both", ("not", one), ("not", other))),
+            ("not", ("not", ("either", one, other))),
+            ("either", ("not", ("not", ("not", ("not", other)))), one),
+            ("both", ("either", one, other), ("not", NONE)),
+            ("not", ("both", ("not", other), ("not", ("both", one, ("many", ANY_TURN))))),
+        ]:
+            self.check_told_otherwise(plan, ("many", otherwise), 546)
+
+    def test_both_and_not_within(self):
+        for times, rooms in [(3, 19), (4, 31), (5, 53), (7, 175), (9, 580)]:
+            part = ("both", ("not", ("many", rights(3))), in_a_row(("many", ANY_TURN), LEFT, ANY_TURN, ANY_TURN))
+            plan = ("many", ("either", part, ("many", turns(times))))
+            self.check_told_otherwise(plan, ("many", ("either", part, turns(times))), rooms)
 
 
 if __name__ == "__main__":

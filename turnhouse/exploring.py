@@ -41,9 +41,8 @@ def first_walk(start, exits, wanted):
     return walk_to(found[0], found[1])
 
 
-def lay_out(start, exits, lit, most):
+def lay_out(start, exits, lit):
     # The rooms are the places, numbered as they are first met, left ahead of right: the order of point 6.
-    # None where there would be more rooms than `most`; if that is None, there may be any number.
     numbers = {start: 0}
     places = [start]
     rooms = []
@@ -55,7 +54,5 @@ def lay_out(start, exits, lit, most):
                 numbers[there] = len(places)
                 places.append(there)
             ahead.append(numbers[there])
-        if most is not None and len(places) > most:
-            return None
         rooms.append((ahead[0], ahead[1], lit(here)))
     return rooms

@@ -3,14 +3,6 @@
 from turnhouse.rooms import exits_of, is_lit
 
 
-def rooms_leading_to(house):
-    leading = [[] for room in house]
-    for room in range(len(house)):
-        for there in exits_of(house, room):
-            leading[there].append(room)
-    return leading
-
-
 def gathered(marked):
     rooms = {}
     for mark, room in marked:
@@ -27,11 +19,24 @@ class Groups:
 
     def __init__(self, house):
         self.house = house
-        self.leading_to = rooms_leading_to(house)
-        self.group_of = [0 for room in house]
-        self.members = [gathered([(0, room) for room in range(len(house))])[0]]
+        self.sort_out([is_lit(house, room) for room in range(len(house))])
+
+    def rooms_ahead(self, room):
+        return exits_of(self.house, room)
+
+    def groups_ahead(self, room):
+        exits = exits_of(self.house, room)
+        return (self.group_of[exits[0]], self.group_of[exits[1]])
+
+    def sort_out(self, lights):
+        self.group_of = [0 for lit in lights]
+        self.members = [dict([(room, True) for room in range(len(lights))])]
+        self.leading_to = [[] for lit in lights]
+        for room in range(len(lights)):
+            for there in self.rooms_ahead(room):
+                self.leading_to[there].append(room)
         self.waiting = dict(self.members[0])
-        self.part(0, [(is_lit(house, room), room) for room in range(len(house))])
+        self.part(0, [(lights[room], room) for room in range(len(lights))])
         while len(self.waiting) > 0:
             self.part_waiting()
 
@@ -40,10 +45,6 @@ class Groups:
         self.waiting = {}
         for group in touched:
             self.part(group, [(self.groups_ahead(room), room) for room in touched[group]])
-
-    def groups_ahead(self, room):
-        exits = exits_of(self.house, room)
-        return (self.group_of[exits[0]], self.group_of[exits[1]])
 
     def part(self, group, marked):
         # Rooms of the group that are not marked stay together: their exits lead where they led before.

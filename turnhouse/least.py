@@ -17,4 +17,4 @@ def least(house):
     def lit(group):
         return is_lit(house, one_of(group))
 
-    return lay_out(groups.group_of[0], exits, lit, None)
+    return lay_out(groups.group_of[0], exits, lit)

@@ -1,0 +1,64 @@
+"""The least house without forks of a house with forks.
+
+Its lots of rooms, gone through plainly, may be far too many, though the least house has few rooms. Then they may still
+be few when walks are told backwards; or the least house is guessed, and it is proven that the guess is right.
+"""
+
+from turnhouse.claims import Proof
+from turnhouse.forks import turned_round
+from turnhouse.guessing import Guess
+from turnhouse.least import least
+from turnhouse.surveying import Survey
+
+FIRST_MOST = 2000
+
+# To guess and prove takes longer than to look at some lots more, so it is begun only where these are many.
+MOST_WITHOUT_PROOF = 5000
+
+# To follow one claim takes about as long as to look at so many lots.
+LOTS_TO_A_CLAIM = 8
+
+# With more probes the guess is hardly better, but each look at them takes longer.
+MOST_PROBES = 1000
+
+
+class Settling:
+    def __init__(self, forks):
+        self.forks = forks
+        self.onwards = Survey(forks)
+        self.back = Survey(turned_round(forks))
+        self.proof = None
+
+    def house_within(self, most):
+        # A house with the same walks, not always the least; None where more than `most` lots don't suffice.
+        self.onwards.go_on(most)
+        if self.onwards.is_whole():
+            return self.onwards.rooms
+        self.back.go_on(most)
+        if self.back.is_whole():
+            # The lots of the walks told backwards are all the probes there are, so this is no mere guess.
+            return Guess(self.forks, self.back.lots).as_house()
+        if most > MOST_WITHOUT_PROOF:
+            return self.proven_within(most // LOTS_TO_A_CLAIM)
+        return None
+
+    def proven_within(self, most):
+        if self.proof is None:
+            self.proof = Proof(self.forks, self.back.lots[:MOST_PROBES])
+        self.proof.go_on(most)
+        if self.proof.is_proven:
+            return self.proof.guess.as_house()
+        return None
+
+
+def least_settled(choices):
+    # The choices have the same walks. Which of them is settled soon, and in which way, isn't known beforehand, so all
+    # are tried with more and more lots.
+    settlings = [Settling(forks) for forks in choices]
+    most = FIRST_MOST
+    while True:
+        for settling in settlings:
+            house = settling.house_within(most)
+            if house is not None:
+                return least(house)
+        most *= 4
