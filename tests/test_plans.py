@@ -298,6 +298,18 @@ class HardPlans(PlanCase):
             walk = "".join(chance.choice("lr") for _ in range(chance.randint(0, 24)))
             self.assertIs(passes(house, walk), fits(plan, walk), walk)
 
+    def test_written_out(self):
+        plan = ("many", one_of(("many", turns(3)), ("many", turns(5)), ("many", lefts(4))))
+        self.assertEqual(words_in(plan), 55)
+        house = self.check_hard(plan, 24)
+        self.assertEqual(house, [
+            (1, 2, True), (3, 4, False), (4, 5, False), (6, 7, False), (7, 8, False), (8, 9, False), (10, 11, True),
+            (12, 13, True), (14, 15, True), (15, 16, True), (10, 10, True), (17, 18, False), (19, 18, False),
+            (18, 19, False), (20, 19, False), (19, 17, False), (17, 17, False), (21, 21, True), (21, 22, True),
+            (22, 21, True), (22, 22, True), (23, 23, True), (10, 23, True), (10, 10, False),
+        ])
+        self.check_some_walks(plan, house)
+
     def test_many_of_either_of_many(self):
         for parts, rooms in [
             ((turns(3), lefts(5)), 104), ((turns(4), rights(5)), 251), ((turns(5), lefts(4)), 278),
