@@ -2,7 +2,7 @@ import itertools
 import unittest
 
 from tests.forking import many_forks, mixed_forks, passes_from, rooms_of, walks_in
-from tests.houses import all_walks, corridor, kinds_of_rooms, passes, same_walks, walks_of
+from tests.houses import all_walks, corridor, passes, same_walks, walks_of
 from turnhouse.claims import Proof
 from turnhouse.forks import Forks, again_forks, behind_forks, either_forks, forks_of_house, turned_round
 from turnhouse.guessing import Excess, Guess, learn_excess
@@ -64,7 +64,8 @@ class Guesses(unittest.TestCase):
                 guess.learn_walk(["lr".index(turn) for turn in walk])
                 self.assertLessEqual(len(guess.lots), rooms)
                 self.assertIs(passes(guess.as_house(), walk), passes_from(forks, rooms_of(forks.first), walk))
-            self.assertEqual(len(set(kinds_of_rooms(guess.as_house()))), len(guess.lots))
+            houses = [least(settled(Forks(forks.exits[0], forks.exits[1], lot, forks.lit))) for lot in guess.lots]
+            self.assertEqual(len({tuple(house) for house in houses}), len(houses))
 
     def test_a_walk_that_passes_in_the_guess_alone_is_no_excess(self):
         forks = forks_of_house(corridor(6))
@@ -131,8 +132,10 @@ class EachWay(unittest.TestCase):
 
     def test_none_where_it_does_not_suffice(self):
         settling = Settling(turn_at_place_from_the_end("l", 5))
-        self.assertIsNone(settling.house_within(3))
-        self.assertTrue(same_walks(settling.house_within(40), settled(turn_at_place_from_the_end("l", 5))))
+        self.assertIsNone(settling.surveyed_within(3))
+        self.assertIsNone(settling.proven_within(3))
+        self.assertTrue(same_walks(settling.surveyed_within(40), settled(turn_at_place_from_the_end("l", 5))))
+        self.assertTrue(same_walks(settling.proven_within(1000), settled(turn_at_place_from_the_end("l", 5))))
 
     def test_many_lots_told_one_way_and_few_told_the_other(self):
         self.assertEqual(len(least_settled([turned_round(turn_at_place_from_the_end("l", 30))])), 32)

@@ -38,7 +38,7 @@ class Proof:
         learn_excess(self.guess)
         self.take_stock()
         self.within = lots_within(self.guess)
-        self.weights = [len(rooms_in(answers)) for answers in self.answers]
+        self.weights = {}
         self.claims_on = {}
         self.claims_at = {}
         kept = [claim for claim in self.claims if self.stands(claim)]
@@ -88,7 +88,6 @@ class Proof:
         self.take_stock()
         for place in range(len(self.within), len(self.answers)):
             self.within.append(1 << place)
-            self.weights.append(len(rooms_in(self.answers[place])))
 
     def stands(self, claim):
         if claim.probed < len(self.guess.probes):
@@ -146,7 +145,7 @@ class Proof:
 
     def fewest(self, room, reached):
         # Of the places from which less passes, as many as can be are left out, as far as the probes tell.
-        places = sorted(rooms_in(reached), key=lambda place: self.weights[place])
+        places = sorted(rooms_in(reached), key=self.weight)
         rest = [0]
         for place in reversed(places):
             rest.append(rest[-1] | self.answers[place])
@@ -158,6 +157,12 @@ class Proof:
                 kept.append(place)
                 met |= self.answers[place]
         return lot_of(kept)
+
+    def weight(self, place):
+        # How many probes meet the place; counted once a round, since it takes long and need not be exact.
+        if place not in self.weights:
+            self.weights[place] = len(rooms_in(self.answers[place]))
+        return self.weights[place]
 
     def rely_on(self, claim):
         if claim.relied < self.round_number:

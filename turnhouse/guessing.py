@@ -56,6 +56,25 @@ class Guess:
         return self.lots[room] & self.forks.lit != 0
 
     def learn_probe(self, probe):
+        # Where a probe parts rooms, that of the same walk with one turn ahead of it often does so too.
+        self.part_by(probe)
+        waiting = self.probes_ahead(probe)
+        while len(waiting) > 0:
+            ahead = waiting.pop()
+            if ahead not in self.known and self.parts_some(ahead):
+                self.part_by(ahead)
+                waiting.extend(self.probes_ahead(ahead))
+
+    def probes_ahead(self, probe):
+        return [self.backwards.led(probe, 0), self.backwards.led(probe, 1)]
+
+    def parts_some(self, probe):
+        for room in range(len(self.exits)):
+            if self.parts(room, 0, probe) or self.parts(room, 1, probe):
+                return True
+        return False
+
+    def part_by(self, probe):
         # What was taken for one room is parted where the probe meets the one lot and not the other.
         if probe in self.known:
             return

@@ -65,6 +65,8 @@ def settled_choices(word, parts):
             choices.append(made_fewer(behind_forks(given[0], given[1])))
         else:
             choices.append(made_fewer(again_forks(given[0])))
+    if choices[0].size() == choices[1].size():
+        return choices[:1]
     return sorted(choices, key=lambda forks: forks.size())
 
 

@@ -16,7 +16,7 @@ FIRST_MOST = 2000
 MOST_WITHOUT_PROOF = 5000
 
 # To follow one claim takes about as long as to look at so many lots.
-LOTS_TO_A_CLAIM = 8
+LOTS_TO_A_CLAIM = 2
 
 # With more probes the guess is hardly better, but each look at them takes longer.
 MOST_PROBES = 1000
@@ -29,8 +29,8 @@ class Settling:
         self.back = Survey(turned_round(forks))
         self.proof = None
 
-    def house_within(self, most):
-        # A house with the same walks, not always the least; None where more than `most` lots don't suffice.
+    def surveyed_within(self, most):
+        # A house with the same walks, not always the least; None where it takes more lots than `most`.
         self.onwards.go_on(most)
         if self.onwards.is_whole():
             return self.onwards.rooms
@@ -38,11 +38,10 @@ class Settling:
         if self.back.is_whole():
             # The lots of the walks told backwards are all the probes there are, so this is no mere guess.
             return Guess(self.forks, self.back.lots).as_house()
-        if most > MOST_WITHOUT_PROOF:
-            return self.proven_within(most // LOTS_TO_A_CLAIM)
         return None
 
     def proven_within(self, most):
+        # The same, but None where it takes to follow more claims than `most` beside those followed before.
         if self.proof is None:
             self.proof = Proof(self.forks, self.back.lots[:MOST_PROBES])
         self.proof.go_on(most)
@@ -51,14 +50,23 @@ class Settling:
         return None
 
 
+def settled_within(settlings, most):
+    for settling in settlings:
+        house = settling.surveyed_within(most)
+        if house is not None:
+            return house
+    if most > MOST_WITHOUT_PROOF:
+        return settlings[0].proven_within(most // LOTS_TO_A_CLAIM)
+    return None
+
+
 def least_settled(choices):
-    # The choices have the same walks. Which of them is settled soon, and in which way, isn't known beforehand, so all
-    # are tried with more and more lots.
+    # The choices have the same walks; the first one has the fewest rooms, so a proof is tried on it alone. Which way is
+    # the short one isn't known beforehand, so all are tried with more and more lots.
     settlings = [Settling(forks) for forks in choices]
     most = FIRST_MOST
-    while True:
-        for settling in settlings:
-            house = settling.house_within(most)
-            if house is not None:
-                return least(house)
-        most *= 4
+    house = None
+    while house is None:
+        house = settled_within(settlings, most)
+        most *= 2
+    return least(house)
