@@ -24,7 +24,8 @@ class Claim:
 class Proof:
     # Each round begins with the claim that all walks of the guess pass in the house with forks, and follows all claims
     # that are relied on. Where one fails, this gives a new probe; the guess is mended, and another round must be gone.
-    # Claims are kept from round to round. When a round needs no new probe, the guess is right.
+    # Claims are kept from round to round. When a thorough round needs no new probe, the guess is right. To prepare one
+    # takes long, so after a round with new probes others follow, with what is known from before, till one needs none.
 
     def __init__(self, forks, probes):
         self.guess = Guess(forks, probes)
@@ -32,12 +33,14 @@ class Proof:
         self.claims = []
         self.round_number = 0
         self.is_proven = False
-        self.begin_round()
+        self.begin_round(True)
 
-    def begin_round(self):
-        learn_excess(self.guess)
-        self.take_stock()
-        self.within = lots_within(self.guess)
+    def begin_round(self, thorough):
+        if thorough:
+            learn_excess(self.guess)
+            self.take_stock()
+            self.within = lots_within(self.guess)
+        self.is_thorough = thorough
         self.weights = {}
         self.claims_on = {}
         self.claims_at = {}
@@ -69,10 +72,10 @@ class Proof:
                 self.follow(self.relied_on[self.followed])
                 self.followed += 1
                 count += 1
-            elif self.is_clean:
+            elif self.is_clean and self.is_thorough:
                 self.is_proven = True
             else:
-                self.begin_round()
+                self.begin_round(self.is_clean)
 
     def follow(self, claim):
         for side in (0, 1):

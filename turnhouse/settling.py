@@ -18,6 +18,9 @@ MOST_WITHOUT_PROOF = 5000
 # To follow one claim takes about as long as to look at so many lots.
 LOTS_TO_A_CLAIM = 2
 
+# Lots of this many rooms take about as long to look at as empty ones.
+ROOMS_SOON_SEEN = 64
+
 # With more probes the guess is hardly better, but each look at them takes longer.
 MOST_PROBES = 1000
 
@@ -28,6 +31,10 @@ class Settling:
         self.onwards = Survey(forks)
         self.back = Survey(turned_round(forks))
         self.proof = None
+
+    def fair_share(self, most):
+        # Beyond the first ones, fewer lots where the house has many rooms, since there each takes longer to look at.
+        return FIRST_MOST + (most - FIRST_MOST) * ROOMS_SOON_SEEN // (ROOMS_SOON_SEEN + self.forks.size())
 
     def surveyed_within(self, most):
         # A house with the same walks, not always the least; None where it takes more lots than `most`.
@@ -52,7 +59,7 @@ class Settling:
 
 def settled_within(settlings, most):
     for settling in settlings:
-        house = settling.surveyed_within(most)
+        house = settling.surveyed_within(settling.fair_share(most))
         if house is not None:
             return house
     if most > MOST_WITHOUT_PROOF:
