@@ -102,23 +102,34 @@ class Proof:
     def require(self, room, given):
         # Sees to it that claims say: what passes from the room of the guess passes from one of the places given.
         # Where a probe shows that it isn't so, the probe comes back, else None.
+        if self.follows(room, given, {}):
+            return None
         reasons = {}
         reached = self.all_reached(given, reasons)
+        if self.follows(room, reached, reasons):
+            return None
+        missing = self.guess.answers[room] & ~joined(self.answers, reached)
+        if missing != 0:
+            return self.guess.probes[missing.bit_length() - 1]
+        claim = Claim(room, self.fewest(room, reached))
+        self.add_claim(claim)
+        self.rely_on(claim)
+        self.rely_on_places(claim.cover, reached, reasons)
+        return None
+
+    def follows(self, room, reached, reasons):
+        # Whether it follows at once, or from a claim on that very room.
         below = joined(self.within, reached)
         own = 1 << (self.offset + room)
         if below & own != 0:
             self.rely_on_places(own, reached, reasons)
-            return None
+            return True
         claim = self.claim_found(room, below)
         if claim is None:
-            missing = self.guess.answers[room] & ~joined(self.answers, reached)
-            if missing != 0:
-                return self.guess.probes[missing.bit_length() - 1]
-            claim = Claim(room, self.fewest(room, reached))
-            self.add_claim(claim)
+            return False
         self.rely_on(claim)
         self.rely_on_places(claim.cover, reached, reasons)
-        return None
+        return True
 
     def add_claim(self, claim):
         self.claims.append(claim)
