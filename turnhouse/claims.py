@@ -12,9 +12,11 @@ from turnhouse.within import lots_within
 
 
 class Claim:
-    def __init__(self, room, cover):
+    def __init__(self, room, cover, maker):
         self.room = room
         self.cover = cover
+        # The claim for whose sake it was made, None for the first one.
+        self.maker = maker
         # In which round it was last relied on, and how many probes it has been held against.
         self.relied = 0
         self.probed = 0
@@ -52,7 +54,7 @@ class Proof:
         self.is_clean = True
         self.relied_on = []
         self.followed = 0
-        self.require(0, self.guess.forks.first)
+        self.require(0, self.guess.forks.first, None)
 
     def take_stock(self):
         # Whatever hangs on the guess's rooms and on the probes: to be done anew when one of them is added.
@@ -81,9 +83,17 @@ class Proof:
         for side in (0, 1):
             if self.stands(claim):
                 room = self.guess.exits[claim.room][side]
-                missing = self.require(room, joined(self.exits[side], claim.cover))
+                missing = self.require(room, joined(self.exits[side], claim.cover), claim)
                 if missing is not None:
-                    self.learn(self.guess.backwards.led(missing, side))
+                    self.fail(claim, self.guess.backwards.led(missing, side))
+
+    def fail(self, claim, probe):
+        rooms = len(self.guess.lots)
+        self.learn(probe)
+        # What the claim was made for needs another one now, or fails too. To see this at once spares a round, but with
+        # new rooms in the guess a new round is better.
+        if claim.maker is not None and len(self.guess.lots) == rooms:
+            self.relied_on.append(claim.maker)
 
     def learn(self, probe):
         self.is_clean = False
@@ -99,7 +109,7 @@ class Proof:
             claim.failed = claim.failed or self.guess.answers[claim.room] & ~met != 0
         return not claim.failed
 
-    def require(self, room, given):
+    def require(self, room, given, maker):
         # Sees to it that claims say: what passes from the room of the guess passes from one of the places given.
         # Where a probe shows that it isn't so, the probe comes back, else None.
         if self.follows(room, given, {}):
@@ -111,7 +121,7 @@ class Proof:
         missing = self.guess.answers[room] & ~joined(self.answers, reached)
         if missing != 0:
             return self.guess.probes[missing.bit_length() - 1]
-        claim = Claim(room, self.fewest(room, reached))
+        claim = Claim(room, self.fewest(room, reached), maker)
         self.add_claim(claim)
         self.rely_on(claim)
         self.rely_on_places(claim.cover, reached, reasons)
