@@ -349,6 +349,12 @@ class HardPlans(PlanCase):
         ]:
             self.check_told_otherwise(plan, ("many", otherwise), 546)
 
+    def test_with_no_short_way_but_a_proof(self):
+        for one, other, third, rooms in [(turns(9), turns(4), lefts(2), 761), (lefts(4), turns(8), turns(3), 532)]:
+            outer = ("then", ("many", one), ("not", ("either", ("many", other), ("many", third))))
+            plan = ("many", ("not", outer))
+            self.check_some_walks(plan, self.check_hard(plan, rooms))
+
     def test_both_and_not_within(self):
         for times, rooms in [(3, 19), (4, 31), (5, 53), (7, 175), (9, 580)]:
             part = ("both", ("not", ("many", rights(3))), in_a_row(("many", ANY_TURN), LEFT, ANY_TURN, ANY_TURN))
